@@ -1,0 +1,1 @@
+"""A ward's rota, laid, mended and told why."""

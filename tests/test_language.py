@@ -1,0 +1,157 @@
+"""The package's files keep to the small part of Python: the rules that can be seen in the text or the tree."""
+
+import ast
+import builtins
+import pathlib
+import re
+import unittest
+
+PACKAGE = pathlib.Path(__file__).resolve().parent.parent / "rotaward"
+FILES = sorted(path for path in PACKAGE.rglob("*") if path.is_file() and "__pycache__" not in path.parts)
+
+ERRORS = set(
+    "Exception ValueError TypeError KeyError IndexError LookupError ZeroDivisionError ArithmeticError OverflowError"
+    " RuntimeError NotImplementedError AttributeError StopIteration".split()
+)
+OWN_NAMES = ERRORS | set(
+    "len range enumerate zip min max sum abs sorted reversed int str bool list tuple dict set frozenset isinstance ord"
+    " repr any all divmod".split()
+)
+METHODS = set(
+    "append clear copy count endswith extend find get index insert isalnum isalpha isdigit islower isspace isupper"
+    " items join keys ljust lower lstrip partition pop remove replace reverse rfind rjust rpartition rsplit rstrip"
+    " setdefault split splitlines startswith strip update upper values zfill bit_length".split()
+)
+UNDERSCORED = ["__init__", "__eq__", "__repr__", "__str__", "__len__"]
+NOWHERE = "register mro elements open input version_info with_traceback add_note format format_map".split()
+WORDS = re.compile(
+    r"\b(type|typing|typing_extensions|enum|Enum|IntEnum|StrEnum|Flag|IntFlag|Generic|Protocol|ABC|ABCMeta|namedtuple"
+    r"|NamedTuple|TypedDict|TYPE_CHECKING|abstractmethod)\b|dataclass|overload|contextmanager"
+)
+NODES = set(
+    "Module Expr Constant ImportFrom alias FunctionDef Lambda arguments arg ClassDef Assign AugAssign If While For"
+    " Return Break Continue Pass Raise Try ExceptHandler Call keyword Name Attribute Subscript Slice List Tuple Dict Set"
+    " ListComp comprehension JoinedStr FormattedValue BinOp UnaryOp BoolOp Compare IfExp Load Store And Or Not Invert"
+    " USub Add Sub Mult FloorDiv Mod Pow BitAnd BitOr BitXor LShift RShift Eq NotEq Lt LtE Gt GtE Is IsNot In"
+    " NotIn".split()
+)
+
+
+def trees():
+    return [(path.name, ast.parse(path.read_text(encoding="utf-8"))) for path in FILES]
+
+
+def nodes(kinds):
+    return [(name, node) for name, tree in trees() for node in ast.walk(tree) if isinstance(node, kinds)]
+
+
+def defined(tree):
+    names = [node.name for node in tree.body if isinstance(node, (ast.FunctionDef, ast.ClassDef))]
+    for node in tree.body:
+        if isinstance(node, ast.Assign):
+            names.extend(target.id for target in node.targets)
+    return names
+
+
+class Texts(unittest.TestCase):
+    def test_files(self):
+        self.assertIn(PACKAGE / "__init__.py", FILES)
+        for path in FILES:
+            self.assertRegex(path.name, r"^[a-z_][a-z0-9_]*\.py$")
+
+    def test_signs_and_sizes(self):
+        for path in FILES:
+            text = path.read_text(encoding="utf-8")
+            rows = text.split("\n")
+            with self.subTest(path=path.name):
+                self.assertRegex(text, r"\A[ -~\n]*\Z")
+                self.assertLessEqual(len(rows), 400)
+                self.assertLessEqual(max(len(row) for row in rows), 120)
+                self.assertIsNone(WORDS.search(text))
+
+    def test_functions_are_short(self):
+        for name, node in nodes(ast.FunctionDef):
+            self.assertLessEqual(node.end_lineno - node.lineno + 1, 40, f"{name}: {node.name}")
+
+
+class Imports(unittest.TestCase):
+    def test_the_packages_own_by_their_full_names(self):
+        tops = {f"rotaward.{name[:-3]}": defined(tree) for name, tree in trees()}
+        for name, node in nodes((ast.Import, ast.ImportFrom)):
+            with self.subTest(name=name, row=node.lineno):
+                self.assertIsInstance(node, ast.ImportFrom)
+                self.assertEqual(node.level, 0)
+                for alias in node.names:
+                    self.assertIn(alias.name, tops[node.module])
+
+    def test_no_two_files_draw_from_one_another(self):
+        drawn = {name[:-3]: set() for name, tree in trees()}
+        for name, node in nodes(ast.ImportFrom):
+            drawn[name[:-3]].add(node.module.split(".")[-1])
+        while drawn:
+            free = [name for name in drawn if not drawn[name] & set(drawn)]
+            self.assertTrue(free, sorted(drawn))
+            for name in free:
+                del drawn[name]
+
+
+class Trees(unittest.TestCase):
+    def test_only_the_forms_of_the_small_part(self):
+        for name, node in nodes(ast.AST):
+            self.assertIn(type(node).__name__, NODES, f"{name}:{getattr(node, 'lineno', 0)}")
+
+    def test_what_has_no_place_in_these_forms(self):
+        for name, node in nodes(ast.AST):
+            where = f"{name}:{getattr(node, 'lineno', 0)}"
+            if isinstance(node, ast.Assign):
+                self.assertEqual(len(node.targets), 1, where)
+            if isinstance(node, (ast.FunctionDef, ast.ClassDef)):
+                self.assertEqual(node.decorator_list, [], where)
+            if isinstance(node, ast.arguments):
+                self.assertEqual((node.vararg, node.kwarg, node.kwonlyargs), (None, None, []), where)
+            if isinstance(node, (ast.For, ast.While)):
+                self.assertEqual(node.orelse, [], where)
+            if isinstance(node, ast.Try):
+                self.assertEqual(node.finalbody, [], where)
+            if isinstance(node, ast.ListComp):
+                self.assertEqual(len(node.generators), 1, where)
+                self.assertLessEqual(len(node.generators[0].ifs), 1, where)
+            if isinstance(node, ast.Constant):
+                self.assertIn(type(node.value), (int, str, bool, type(None)), where)
+            if isinstance(node, ast.BinOp) and isinstance(node.op, ast.Pow):
+                self.assertIsInstance(node.right, ast.Constant, where)
+                self.assertIn(node.right.value, range(65), where)
+
+    def test_names(self):
+        python = set(dir(builtins)) - OWN_NAMES
+        for name, node in nodes((ast.Name, ast.arg, ast.FunctionDef, ast.ClassDef)):
+            word = getattr(node, "id", None) or getattr(node, "arg", None) or node.name
+            with self.subTest(name=name, row=node.lineno, word=word):
+                self.assertTrue(word in UNDERSCORED or not word.startswith("_"))
+                self.assertNotIn(word, NOWHERE)
+                if isinstance(node, ast.Name):
+                    self.assertNotIn(word, python)
+                if isinstance(node, ast.arg) or isinstance(getattr(node, "ctx", None), ast.Store):
+                    self.assertFalse(hasattr(builtins, word))
+
+    def test_methods_that_are_called(self):
+        own = {node.name for name, node in nodes(ast.FunctionDef)}
+        for name, node in nodes(ast.Call):
+            if isinstance(node.func, ast.Attribute):
+                self.assertIn(node.func.attr, METHODS | own, f"{name}:{node.lineno}")
+
+    def test_no_name_is_a_method_here_and_a_value_there(self):
+        methods = {
+            part.name for name, node in nodes(ast.ClassDef) for part in node.body if isinstance(part, ast.FunctionDef)
+        }
+        values = {node.attr for name, node in nodes(ast.Attribute) if isinstance(node.ctx, ast.Store)}
+        self.assertEqual(methods & values, set())
+
+    def test_is_stands_beside_none_true_and_false(self):
+        for name, node in nodes(ast.Compare):
+            if any(isinstance(op, (ast.Is, ast.IsNot)) for op in node.ops):
+                self.assertIsInstance(node.comparators[0], ast.Constant, f"{name}:{node.lineno}")
+
+
+if __name__ == "__main__":
+    unittest.main()
