@@ -1,4 +1,7 @@
-"""The package's files keep to the small part of Python: the rules that can be seen in the text or the tree."""
+"""Some rules of the small part of Python that the package keeps to.
+
+Looked at, in whole or in part: L1, L2, L4, L6 to L8, L10, L12, L14, L16 to L18, L20, L25, L27. The others are not.
+"""
 
 import ast
 import builtins
