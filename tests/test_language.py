@@ -1,6 +1,6 @@
 """Some rules of the small part of Python that the package keeps to.
 
-Looked at, in whole or in part: L1, L2, L4, L6 to L8, L10, L12, L14, L16 to L18, L20, L25, L27. The others are not.
+Looked at, in whole or in part: L1 to L8, L10, L12, L14 to L18, L20, L23, L25 to L27. The others are not.
 """
 
 import ast
@@ -56,6 +56,19 @@ def defined(tree):
     return names
 
 
+def imported(tree):
+    return [alias.name for node in tree.body if isinstance(node, ast.ImportFrom) for alias in node.names]
+
+
+def calls_of(names):
+    found = []
+    for name, node in nodes(ast.Call):
+        word = getattr(node.func, "id", None) or getattr(node.func, "attr", None)
+        if word in names:
+            found.append((name, node))
+    return found
+
+
 class Texts(unittest.TestCase):
     def test_files(self):
         self.assertIn(PACKAGE / "__init__.py", FILES)
@@ -96,6 +109,39 @@ class Imports(unittest.TestCase):
             self.assertTrue(free, sorted(drawn))
             for name in free:
                 del drawn[name]
+
+
+class Tops(unittest.TestCase):
+    def test_only_what_may_stand_at_a_files_top(self):
+        for name, tree in trees():
+            self.assertIsNotNone(ast.get_docstring(tree), name)
+            for node in tree.body[1:]:
+                self.assertIsInstance(node, (ast.ImportFrom, ast.FunctionDef, ast.ClassDef, ast.Assign), name)
+                if isinstance(node, ast.Assign):
+                    self.assertIsInstance(node.value, ast.Constant, f"{name}:{node.lineno}")
+
+    def test_each_name_is_bound_once(self):
+        for name, tree in trees():
+            names = defined(tree) + imported(tree)
+            self.assertEqual(len(names), len(set(names)), name)
+
+    def test_no_local_is_called_like_a_class_or_an_import(self):
+        for name, tree in trees():
+            classes = [node.name for node in tree.body if isinstance(node, ast.ClassDef)]
+            taken = set(classes + imported(tree))
+            for part in ast.walk(tree):
+                if isinstance(part, ast.arg):
+                    self.assertNotIn(part.arg, taken, f"{name}:{part.lineno}")
+                if isinstance(part, ast.Name) and isinstance(part.ctx, ast.Store):
+                    self.assertNotIn(part.id, taken, f"{name}:{part.lineno}")
+
+    def test_classes_hold_methods_alone_and_have_at_most_one_base(self):
+        for name, node in nodes(ast.ClassDef):
+            self.assertLessEqual(len(node.bases), 1, f"{name}:{node.lineno}")
+            for part in node.body:
+                self.assertIsInstance(part, (ast.FunctionDef, ast.Pass), f"{name}:{part.lineno}")
+            names = [part.name for part in node.body if isinstance(part, ast.FunctionDef)]
+            self.assertEqual(len(names), len(set(names)), f"{name}:{node.lineno}")
 
 
 class Trees(unittest.TestCase):
@@ -149,6 +195,24 @@ class Trees(unittest.TestCase):
         }
         values = {node.attr for name, node in nodes(ast.Attribute) if isinstance(node.ctx, ast.Store)}
         self.assertEqual(methods & values, set())
+
+    def test_own_methods_and_values_have_free_names(self):
+        python = {word for kind in (str, int, list, dict, set, bytes, tuple) for word in dir(kind)}
+        for name, node in nodes(ast.ClassDef):
+            for part in node.body:
+                if isinstance(part, ast.FunctionDef) and part.name not in UNDERSCORED:
+                    self.assertNotIn(part.name, python, f"{name}:{part.lineno}")
+        for name, node in nodes(ast.Attribute):
+            if isinstance(node.ctx, ast.Store):
+                self.assertNotIn(node.attr, python, f"{name}:{node.lineno}")
+
+    def test_what_is_walked_at_once_is_not_kept(self):
+        walked = [(name, node.iter) for name, node in nodes((ast.For, ast.comprehension))]
+        for name, node in calls_of("list tuple dict sorted sum any all enumerate zip min max".split()):
+            walked.extend((name, thing) for thing in node.args[:1])
+        places = [(name, ast.dump(node, include_attributes=True)) for name, node in walked]
+        for name, node in calls_of("zip enumerate reversed range items keys values".split()):
+            self.assertIn((name, ast.dump(node, include_attributes=True)), places, f"{name}:{node.lineno}")
 
     def test_is_stands_beside_none_true_and_false(self):
         for name, node in nodes(ast.Compare):
