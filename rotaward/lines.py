@@ -24,12 +24,13 @@ def summed(pairs):
     return (numbers, bound)
 
 
+# Only the cells that the numbers speak of are walked: a paper asks this very often, mostly of few cells.
 def best(ward, pins, numbers):
+    choices = [ward.choices(hand) for hand in range(len(ward.hands))]
     reached = 0
-    for hand in range(len(ward.hands)):
-        choices = ward.choices(hand)
-        for day in range(ward.days):
-            values = [pins[(hand, day)]] if (hand, day) in pins else choices
+    for hand, day in dict([((hand, day), True) for hand, day, post in numbers]):
+        if 0 <= hand < len(choices) and 0 <= day < ward.days:
+            values = [pins[(hand, day)]] if (hand, day) in pins else choices[hand]
             reached = reached + max([numbers.get((hand, day, value), 0) for value in values])
     return reached
 

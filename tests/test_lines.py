@@ -228,6 +228,11 @@ class Best(unittest.TestCase):
         self.assertEqual(best(NO_HANDS, {}, {}), 0)
         self.assertEqual(best(NO_HANDS, {}, {(0, 0, 0): 5, (0, 1, 1): 7}), 0)
 
+    def test_cells_that_are_none_of_the_wards(self):
+        numbers = {(2, 0, 0): 9, (-1, 0, 0): 9, (0, 2, 0): 9, (1, -1, 0): 9, (0, 2, 1): -9, (2, 1, 1): 9, (0, 1, 1): 4}
+        self.assertEqual(best(WARD, {}, numbers), 4)
+        self.assertEqual(best(WARD, {(0, 1): 0, (1, 1): 1}, numbers), 0)
+
     def test_very_great(self):
         numbers = {(0, 0, 1): GREAT, (0, 0, 2): GREAT + 1, (1, 1, 0): -GREAT, (1, 1, 1): -GREAT - 1}
         self.assertEqual(best(WARD, {}, numbers), 1)
