@@ -1,6 +1,6 @@
 """Some rules of the small part of Python that the package keeps to.
 
-Looked at, in whole or in part: L1 to L8, L10, L12, L14 to L18, L20, L23, L25 to L27. The others are not.
+Looked at, in whole or in part: L1 to L8, L10, L12, L14 to L18, L20 to L28. The others are not.
 """
 
 import ast
@@ -25,6 +25,8 @@ METHODS = set(
     " items join keys ljust lower lstrip partition pop remove replace reverse rfind rjust rpartition rsplit rstrip"
     " setdefault split splitlines startswith strip update upper values zfill bit_length".split()
 )
+KEYWORDS = {"sorted": {"key", "reverse"}, "min": {"key", "default"}, "max": {"key", "default"}, "sum": {"start"},
+            "enumerate": {"start"}, "zip": {"strict"}}
 UNDERSCORED = ["__init__", "__eq__", "__repr__", "__str__", "__len__"]
 NOWHERE = "register mro elements open input version_info with_traceback add_note format format_map".split()
 WORDS = re.compile(
@@ -213,6 +215,28 @@ class Trees(unittest.TestCase):
         places = [(name, ast.dump(node, include_attributes=True)) for name, node in walked]
         for name, node in calls_of("zip enumerate reversed range items keys values".split()):
             self.assertIn((name, ast.dump(node, include_attributes=True)), places, f"{name}:{node.lineno}")
+
+    def test_keywords_of_pythons_own(self):
+        for name, node in nodes(ast.Call):
+            word = getattr(node.func, "id", None) or getattr(node.func, "attr", None)
+            if word in OWN_NAMES | METHODS:
+                self.assertLessEqual({part.arg for part in node.keywords}, KEYWORDS.get(word, set()), f"{name}:{node.lineno}")
+
+    def test_no_sets(self):
+        # Narrower than the rule, which lets one stand beside in: none has been needed.
+        self.assertEqual(calls_of(["set", "frozenset"]), [])
+        self.assertEqual(nodes(ast.Set), [])
+
+    def test_no_annotations(self):
+        for name, node in nodes((ast.FunctionDef, ast.arg)):
+            self.assertIsNone(getattr(node, "returns", None), f"{name}:{node.lineno}")
+            self.assertIsNone(getattr(node, "annotation", None), f"{name}:{node.lineno}")
+
+    def test_of_the_methods_with_two_underscores_init_alone(self):
+        for name, node in nodes(ast.FunctionDef):
+            self.assertTrue(node.name == "__init__" or not node.name.startswith("__"), f"{name}:{node.lineno}")
+            if node.name == "__init__":
+                self.assertEqual([part for part in ast.walk(node) if isinstance(part, ast.Return)], [])
 
     def test_is_stands_beside_none_true_and_false(self):
         for name, node in nodes(ast.Compare):
