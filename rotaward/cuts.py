@@ -37,10 +37,11 @@ def are_within(slots, caps, where):
     return in_slots and all([many <= cap for many, cap in zip(borne, caps)])
 
 
-def are_rising(seats, short):
+# Whether these numbers rise and each is the number of one of the things.
+def are_rising(things, numbers):
     last = -1
-    for seat in short:
-        if seat <= last or seat >= len(seats):
+    for number in numbers:
+        if number <= last or number >= len(things):
             return False
-        last = seat
+        last = number
     return True
